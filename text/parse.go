@@ -2,6 +2,7 @@ package text
 
 import (
 	"slices"
+	"strconv"
 
 	"sortkernel/api"
 	"sortkernel/term"
@@ -147,19 +148,12 @@ func lastOf(l []string, w string) int {
 
 // universe is the term of `U`, and of what stands behind it.
 func universe(number string) (api.Term, api.Errno) {
-	if number == "" || len(number) > 1 && number[0] == '0' {
+	n, err := strconv.Atoi(number)
+	// Atoi takes a needless 0, and a needless sign: what is written anew has neither.
+	if err != nil || strconv.Itoa(n) != number {
 		return api.Term{}, api.ErrForm
 	}
-	n := 0
-	for i := range len(number) {
-		c := number[i]
-		if c < '0' || c > '9' {
-			return api.Term{}, api.ErrForm
-		}
-		// Once it is too large it stays so: there may be more digits than an int holds.
-		n = min(n*10+int(c-'0'), api.MaxU+1)
-	}
-	if n > api.MaxU {
+	if n < 0 || n > api.MaxU {
 		return api.Term{}, api.ErrRange
 	}
 	return api.Term{Kind: api.TmU, N: n}, api.OK

@@ -1,7 +1,9 @@
 package text
 
 import (
+	"math"
 	"slices"
+	"strconv"
 	"strings"
 	"testing"
 
@@ -213,13 +215,37 @@ func TestC2ParseWholes(t *testing.T) {
 func TestC2ParseNumbers(t *testing.T) {
 	wrongs(t, nil, []string{"u"}, []wrongText{
 		{"U", api.ErrForm}, {"U 0", api.ErrForm}, {"U(", api.ErrForm}, {"Ux", api.ErrForm}, {"Unat", api.ErrForm}, {"UU0", api.ErrForm},
-		{"U00", api.ErrForm}, {"U01", api.ErrForm}, {"U000", api.ErrForm}, {"U+1", api.ErrForm}, {"U-1", api.ErrForm}, {"U-0", api.ErrForm},
+		{"U00", api.ErrForm}, {"U01", api.ErrForm}, {"U000", api.ErrForm}, {"U04", api.ErrForm}, {"U1e0", api.ErrForm},
 		{"U1x", api.ErrForm}, {"U0x1", api.ErrForm}, {"U1.0", api.ErrForm}, {"U1_0", api.ErrForm}, {"U9x", api.ErrForm}, {"U٣", api.ErrForm},
-		{"U1/", api.ErrForm}, {"U1:", api.ErrForm}, {"U04", api.ErrForm}, {"U99999999999999999999999x", api.ErrForm},
-		{"U4", api.ErrRange}, {"U9", api.ErrRange}, {"U10", api.ErrRange}, {"U30", api.ErrRange}, {"U256", api.ErrRange},
-		{"U4294967296", api.ErrRange}, {"U18446744073709551616", api.ErrRange}, {"U" + strings.Repeat("9", 1000), api.ErrRange},
-		{"(suc U4)", api.ErrRange}, {"(U4 ?)", api.ErrRange}, {"(? U4)", api.ErrName},
-		{"u0", api.ErrName}, {"0", api.ErrName},
+		{"U1/", api.ErrForm}, {"U1:", api.ErrForm}, {"U99999999999999999999999x", api.ErrForm}, {"U1\t", api.ErrForm}, {"U\x00", api.ErrForm},
+		{"U4", api.ErrRange}, {"U9", api.ErrRange}, {"U10", api.ErrRange}, {"U30", api.ErrRange}, {"U256", api.ErrRange}, {"U4294967296", api.ErrRange},
+		{"(suc U4)", api.ErrRange}, {"(U4 ?)", api.ErrRange}, {"(? U4)", api.ErrName}, {"(U-1 ?)", api.ErrRange}, {"(U+1 ?)", api.ErrForm},
+		{"u0", api.ErrName}, {"0", api.ErrName}, {"-1", api.ErrName},
+	})
+}
+
+// TestC2ParseSigns: the sign of a number below 0 is needed, so it is a number; any other sign is needless.
+func TestC2ParseSigns(t *testing.T) {
+	wrongs(t, nil, nil, []wrongText{
+		{"U-1", api.ErrRange}, {"U-3", api.ErrRange}, {"U-4", api.ErrRange}, {"U-10", api.ErrRange}, {"U-4294967296", api.ErrRange},
+		{"U-", api.ErrForm}, {"U+", api.ErrForm}, {"U-0", api.ErrForm}, {"U+0", api.ErrForm}, {"U+1", api.ErrForm}, {"U+4", api.ErrForm},
+		{"U-01", api.ErrForm}, {"U-00", api.ErrForm}, {"U--1", api.ErrForm}, {"U+-1", api.ErrForm}, {"U-+1", api.ErrForm}, {"U1-", api.ErrForm},
+		{"U-1x", api.ErrForm}, {"U- 1", api.ErrForm}, {"U\u22121", api.ErrForm},
+	})
+}
+
+// TestC2ParseGreatNumbers: beyond Go's int there is no number.
+func TestC2ParseGreatNumbers(t *testing.T) {
+	below, above := strconv.Itoa(math.MinInt), strconv.Itoa(math.MaxInt)
+	wrongs(t, nil, nil, []wrongText{
+		{"U" + above, api.ErrRange}, {"U" + strconv.Itoa(math.MaxInt-1), api.ErrRange},
+		{"U" + below, api.ErrRange}, {"U" + strconv.Itoa(math.MinInt+1), api.ErrRange},
+		{"U" + strconv.FormatUint(math.MaxInt+1, 10), api.ErrForm}, {"U-" + strconv.FormatUint(math.MaxInt+2, 10), api.ErrForm},
+		{"U" + above + "0", api.ErrForm}, {"U" + below + "0", api.ErrForm}, {"U0" + above, api.ErrForm}, {"U+" + above, api.ErrForm},
+		{"U18446744073709551615", api.ErrForm}, {"U18446744073709551616", api.ErrForm}, {"U18446744073709551617", api.ErrForm},
+		{"U-18446744073709551615", api.ErrForm}, {"U99999999999999999999", api.ErrForm},
+		{"U" + strings.Repeat("9", 1000), api.ErrForm}, {"U-" + strings.Repeat("9", 1000), api.ErrForm},
+		{"(suc U" + above + ")", api.ErrRange}, {"(suc U" + above + "0)", api.ErrForm},
 	})
 }
 
