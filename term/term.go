@@ -70,6 +70,19 @@ func Size(t api.Term) int {
 	return n
 }
 
+// Copy is t in new memory: no list of it is one of t's, nor are two of them the same one; t need not be right.
+func Copy(t api.Term) api.Term {
+	out := api.Term{Kind: t.Kind, N: t.N}
+	if len(t.Args) == 0 {
+		return out
+	}
+	out.Args = make([]api.Term, len(t.Args))
+	for i, a := range t.Args {
+		out.Args[i] = Copy(a)
+	}
+	return out
+}
+
 // Wrong is what is wrong with t, where so many are bound, and declared; OK, if t is right.
 func Wrong(t api.Term, bound, decls int) api.Errno {
 	fits := func(t api.Term, within int) bool {

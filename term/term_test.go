@@ -83,6 +83,23 @@ func TestA1Size(t *testing.T) {
 	}
 }
 
+// TestCopy: the same term, right or not, in memory that is neither the other one's nor used twice.
+func TestCopy(t *testing.T) {
+	twice := m(api.TmSuc, nat)
+	for _, x := range []api.Term{nat, none, v(-7), {Kind: api.TmNat, N: 3, Args: []api.Term{}}, m(api.TmVar, nat), m(api.TmApp, twice, twice), under(zero, 1<<16-1)} {
+		same(t, "Copy", Copy(x), x)
+	}
+	x, list := roomy()
+	got := Copy(x)
+	spoil(got)
+	if _, fresh := roomy(); !sameRoom(list, fresh) {
+		t.Error("Copy: what was handed in is changed with the answer")
+	}
+	got = Copy(m(api.TmApp, twice, twice))
+	spoil(got.Args[0])
+	same(t, "the other one", got.Args[1], twice)
+}
+
 // wrongCase is a term, how many are bound and declared, and what Wrong must tell.
 type wrongCase struct {
 	t            api.Term
