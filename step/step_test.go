@@ -293,6 +293,36 @@ func TestD1Wrong(t *testing.T) {
 	same(t, "Step", got, m(0, nat, zero))
 }
 
+// TestAny: there is a step where Step does one, and it is only looked for.
+func TestAny(t *testing.T) {
+	decls, seed, with := some(t), uint32(3), 0
+	for round := range 20000 {
+		x := made(&seed, 1+round%4, len(someBound))
+		_, want := behindOne(decls, x, false)
+		if want {
+			with++
+		}
+		if Any(decls, x) != want {
+			t.Fatalf("Any of %v is %v", x, !want)
+		}
+	}
+	if with < 2000 || with > 18000 {
+		t.Errorf("%d of them have a step", with)
+	}
+	for _, x := range []api.Term{{}, none, def(-1), def(len(decls)), m(api.TmApp), m(api.TmFst, m(api.TmPair)), m(api.TmRec, nat, nat, nat, m(api.TmSuc))} {
+		if Any(decls, x) {
+			t.Errorf("%v has a step", x)
+		}
+	}
+	x, deep := roomy(read(t, "(fn nat n (suc ((fn nat m m) n)))")), under(m(api.TmFst, m(api.TmPair, nat, nat, nat, nat)), 1<<16-4)
+	if !Any(nil, x) || !sameRoom(x, roomy(read(t, "(fn nat n (suc ((fn nat m m) n)))"))) {
+		t.Error("Any does not only look")
+	}
+	if !Any(nil, deep) || Any(nil, under(zero, 1<<16-1)) {
+		t.Error("Any fails of what is deep")
+	}
+}
+
 // memory are terms of which one step, or none, leaves parts as they are.
 func memory(t *testing.T) []api.Term {
 	var out []api.Term

@@ -11,12 +11,13 @@ func Binds(kind int) ([]int, bool) {
 	}
 	out := make([]int, many)
 	for i := range out {
-		out[i] = bindsAt(kind, i)
+		out[i] = BindsAt(kind, i)
 	}
 	return out, true
 }
 
-// arity and bindsAt are what Binds tells, without a list: the walks ask for it at every term.
+// arity is how many arguments a kind has; false, if there is no such kind. Walks ask for it, and for BindsAt,
+// at every term, and need no list of Binds for it.
 func arity(kind int) (int, bool) {
 	switch kind {
 	case api.TmVar, api.TmU, api.TmUnit, api.TmStar, api.TmEmpty, api.TmNat, api.TmZero, api.TmDef:
@@ -31,7 +32,8 @@ func arity(kind int) (int, bool) {
 	return 0, false
 }
 
-func bindsAt(kind, arg int) int {
+// BindsAt is how many that argument of a kind has bound; 0, if there is no such argument, or no such kind.
+func BindsAt(kind, arg int) int {
 	switch kind {
 	case api.TmPi, api.TmLam, api.TmSig, api.TmPair:
 		if arg == 1 {
@@ -123,7 +125,7 @@ func firstWrong(t api.Term, around, within int, fits func(t api.Term, within int
 		return api.ErrRange
 	}
 	for i, a := range t.Args {
-		if e := firstWrong(a, around+1, within+bindsAt(t.Kind, i), fits); e != api.OK {
+		if e := firstWrong(a, around+1, within+BindsAt(t.Kind, i), fits); e != api.OK {
 			return e
 		}
 	}

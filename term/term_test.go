@@ -38,6 +38,22 @@ func TestA1BindsAnswersNewMemory(t *testing.T) {
 	}
 }
 
+// TestBindsAt: what Binds lists, place by place, and none where it lists nothing.
+func TestBindsAt(t *testing.T) {
+	for kind := -3; kind < 300; kind++ {
+		binds, _ := Binds(kind)
+		for arg := -2; arg < 7; arg++ {
+			want := 0
+			if arg >= 0 && arg < len(binds) {
+				want = binds[arg]
+			}
+			if got := BindsAt(kind, arg); got != want {
+				t.Errorf("BindsAt(%d, %d) is %d", kind, arg, got)
+			}
+		}
+	}
+}
+
 func TestA1Same(t *testing.T) {
 	l := []api.Term{
 		v(0), v(1), v(-1), u(0), nat, zero, none, {Kind: 19}, {Kind: api.TmNat, N: 1},

@@ -52,7 +52,7 @@ func mapVars(t api.Term, within int, f func(n, within int) api.Term) api.Term {
 	}
 	out.Args = make([]api.Term, len(t.Args))
 	for i, a := range t.Args {
-		out.Args[i] = mapVars(a, within+bindsAt(t.Kind, i), f)
+		out.Args[i] = mapVars(a, within+BindsAt(t.Kind, i), f)
 	}
 	return out
 }
@@ -63,7 +63,7 @@ func anyVar(t api.Term, within int, f func(n, within int) bool) bool {
 		return f(t.N, within)
 	}
 	for i, a := range t.Args {
-		if anyVar(a, within+bindsAt(t.Kind, i), f) {
+		if anyVar(a, within+BindsAt(t.Kind, i), f) {
 			return true
 		}
 	}

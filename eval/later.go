@@ -1,0 +1,49 @@
+package eval
+
+// later is a value that is worked out when it is first asked for, and only then.
+type later struct {
+	do   doing // nil, once it was done
+	done *value
+}
+
+// doing works a value out, and hands it to the one who asked.
+//
+// Nobody waits for a value within a call: values hang on others, and these on others, as often as numbers are large,
+// and calls cannot be that deep within one another. So each call answers what is to be done next.
+type doing func(to then) next
+
+// then is what is done with a value.
+type then func(v *value) next
+
+// next is what is to be done: v is handed on; nothing, if there is none to hand it to.
+type next struct {
+	to then
+	v  *value
+}
+
+func known(v *value) *later {
+	return &later{done: v}
+}
+
+// ask hands the value on, once it is worked out.
+func (l *later) ask(to then) next {
+	if l.do == nil {
+		return next{to, l.done}
+	}
+	return next{to: func(*value) next {
+		return l.do(func(v *value) next {
+			// What it was worked out of may go.
+			l.do, l.done = nil, v
+			return next{to, v}
+		})
+	}}
+}
+
+// now is the value: all that is to be done for it is done, one behind the other.
+func (l *later) now() *value {
+	n := l.ask(func(*value) next { return next{} })
+	for n.to != nil {
+		n = n.to(n.v)
+	}
+	return l.done
+}
