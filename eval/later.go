@@ -1,9 +1,9 @@
 package eval
 
-// later is a value that is worked out when it is first asked for, and only then.
-type later struct {
+// Later is a value that is worked out when it is first asked for, and only then.
+type Later struct {
 	do   doing // nil, once it was done
-	done *value
+	done *Value
 }
 
 // doing works a value out, and hands it to the one who asked.
@@ -13,25 +13,25 @@ type later struct {
 type doing func(to then) next
 
 // then is what is done with a value.
-type then func(v *value) next
+type then func(v *Value) next
 
 // next is what is to be done: v is handed on; nothing, if there is none to hand it to.
 type next struct {
 	to then
-	v  *value
+	v  *Value
 }
 
-func known(v *value) *later {
-	return &later{done: v}
+func known(v *Value) *Later {
+	return &Later{done: v}
 }
 
 // ask hands the value on, once it is worked out.
-func (l *later) ask(to then) next {
+func (l *Later) ask(to then) next {
 	if l.do == nil {
 		return next{to, l.done}
 	}
-	return next{to: func(*value) next {
-		return l.do(func(v *value) next {
+	return next{to: func(*Value) next {
+		return l.do(func(v *Value) next {
 			// What it was worked out of may go.
 			l.do, l.done = nil, v
 			return next{to, v}
@@ -39,9 +39,9 @@ func (l *later) ask(to then) next {
 	}}
 }
 
-// now is the value: all that is to be done for it is done, one behind the other.
-func (l *later) now() *value {
-	n := l.ask(func(*value) next { return next{} })
+// Now is the value: all that is to be done for it is done, one behind the other.
+func (l *Later) Now() *Value {
+	n := l.ask(func(*Value) next { return next{} })
 	for n.to != nil {
 		n = n.to(n.v)
 	}

@@ -8,12 +8,12 @@ import (
 // untold is a value that is still to be told as a term, at that place, where so many are bound.
 type untold struct {
 	at    *api.Term
-	what  *later
+	what  *Later
 	bound int
 }
 
 // told is a value as a term, where so many are bound.
-func told(what *later, bound int) api.Term {
+func told(what *Later, bound int) api.Term {
 	var out api.Term
 	// A list of what is left, and no calls within one another: terms may be deeper than calls can be.
 	left := []untold{{&out, what, bound}}
@@ -26,31 +26,29 @@ func told(what *later, bound int) api.Term {
 
 // tell tells u at its place, and puts its arguments to those that are left.
 func tell(u untold, left []untold) []untold {
-	v := u.what.now()
-	if v.kind == api.TmVar {
-		*u.at = api.Term{Kind: api.TmVar, N: u.bound - 1 - v.n}
+	v := u.what.Now()
+	if v.Kind == api.TmVar {
+		*u.at = api.Term{Kind: api.TmVar, N: u.bound - 1 - v.N}
 		return left
 	}
-	*u.at = api.Term{Kind: v.kind, N: v.n}
+	*u.at = api.Term{Kind: v.Kind, N: v.N}
 	if len(v.args) == 0 {
 		return left
 	}
 	u.at.Args = make([]api.Term, len(v.args))
-	for i, a := range v.args {
-		binds := term.BindsAt(v.kind, i)
-		left = append(left, untold{&u.at.Args[i], open(a, u.bound, binds), u.bound + binds})
+	for i := range v.args {
+		binds := term.BindsAt(v.Kind, i)
+		what := v.Arg(i, frees(u.bound, binds)...)
+		left = append(left, untold{&u.at.Args[i], what, u.bound + binds})
 	}
 	return left
 }
 
-// open is an argument that has so many bound: of these no more is known than that.
-func open(a arg, bound, binds int) *later {
-	if binds == 0 {
-		return a.plain
+// frees are so many that are bound, of which no more is known, behind those that are ahead.
+func frees(ahead, many int) []*Later {
+	var out []*Later
+	for i := range many {
+		out = append(out, Free(ahead+i))
 	}
-	var these []*later
-	for i := range binds {
-		these = append(these, free(bound+i))
-	}
-	return &later{do: a.under(these...)}
+	return out
 }
