@@ -45,7 +45,7 @@ func TestF1FunctionsOfTheirOwn(t *testing.T) {
 
 func TestF1Pairs(t *testing.T) {
 	p := at(t, "p", "(sig nat n nat)", "q", "(sig nat n nat)", "a", "nat")
-	p.same("(sig nat n nat)", "p", "(pair nat n nat (fst p) (snd p))", "(pair (rec n U0 nat i j j a) n nat (fst p) (snd p))")
+	p.same("(sig nat n nat)", "p", "(pair nat n nat (fst p) (snd p))", "(pair (rec n U0 nat i j j one) n nat (fst p) (snd p))")
 	p.apart("(sig nat n nat)", "p", "q", "(pair nat n nat (fst p) (snd q))", "(pair nat n nat (fst q) (snd p))", "(pair nat n nat (snd p) (fst p))", "(pair nat n nat a a)", "(pair nat n nat a zero)", "(pair nat n nat zero a)", "(pair nat n nat zero zero)")
 	p.same("nat", "(fst p)", "(fst (pair nat n nat (fst p) a))")
 	p.same("nat", "(snd p)", "(snd (pair nat n nat a (snd p)))")
@@ -124,10 +124,15 @@ func TestF1Types(t *testing.T) {
 // TestF1HeightsAsTypes: what is of TmU is held as types are, whichever height it has.
 func TestF1HeightsAsTypes(t *testing.T) {
 	p := at(t, "f", "(pi U0 x U0)", "g", "(pi U1 x U1)")
-	for _, of := range []string{"U0", "U1", "U2", "((fn U2 x x) U1)"} {
+	for _, of := range []string{"U0", "((fn U1 x x) U0)"} {
 		p.same(of, "(pi nat n nat)", "(fun one)")
 		p.apart(of, "nat", "unit", "(pi nat n nat)", "(sig nat n nat)", "(f nat)", "(f unit)")
 	}
+	for _, of := range []string{"U1", "((fn U2 x x) U1)"} {
+		p.same(of, "(pi U0 n (fun one))", "(pi ((fn U1 x x) U0) n (pi nat m nat))")
+		p.apart(of, "U0", "(pi U0 n nat)", "(pi nat n U0)", "(sig U0 n n)", "(g U0)", "(g (pi U0 n n))")
+	}
+	p.apart("U2", "U1", "(pi U0 n U1)", "(pi U1 n U0)", "(sig U1 n n)")
 	p.same("(pi U0 x U0)", "(fn U0 x (pi x y x))", "(fn U0 x (pi x y (rec k U0 x i j j zero)))")
 	p.apart("(pi U0 x U0)", "f", "(fn U0 x x)", "(fn U0 x nat)", "(fn U0 x (pi x y x))", "(fn U0 x (sig x y x))", "(fn U0 x (f (f x)))")
 	p.apart("(pi U1 x U1)", "g", "(fn U1 x x)", "(fn U1 x U0)", "(fn U1 x (pi U0 y x))")

@@ -11,7 +11,8 @@ import (
 // terms come to may be deeper than calls can be. As all of them must be the same, any may be looked at first.
 type hold struct {
 	left  []both
-	types []*eval.Later // of those that are bound, the first one first
+	ahead []*eval.Later // types of those that are bound ahead of all, the first one first; only read
+	types []*eval.Later // of those that were bound since
 }
 
 // both are two values that must be the same: of that type; as types, if there is none.
@@ -19,20 +20,23 @@ type both struct {
 	a, b, of *eval.Later
 }
 
-// newHold is without anything that must be the same, where those of ctx are bound.
-func newHold(m *eval.Maker, ctx []api.Term) *hold {
-	h := &hold{}
-	for i := range ctx {
-		h.bind(m.Where(i).Later(&ctx[i]))
-	}
-	return h
-}
-
 // bind is something of that type of which no more is known. Nothing that is bound gives its number free again: so
 // what is left needs no contexts of its own, and what is bound in one part is not to be found in another.
 func (h *hold) bind(of *eval.Later) *eval.Later {
 	h.types = append(h.types, of)
-	return eval.Free(len(h.types) - 1)
+	return eval.Free(len(h.ahead) + len(h.types) - 1)
+}
+
+// typeOf is the type of what so many were bound ahead of; nil, if there is none.
+func (h *hold) typeOf(n int) *eval.Later {
+	switch since := n - len(h.ahead); {
+	case n < 0 || since >= len(h.types):
+		return nil
+	case since < 0:
+		return h.ahead[n]
+	default:
+		return h.types[since]
+	}
 }
 
 func (h *hold) must(a, b, of *eval.Later) {

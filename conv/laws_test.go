@@ -146,3 +146,28 @@ func TestF1Parts(t *testing.T) {
 		t.Errorf("%d are the same", yes)
 	}
 }
+
+// TestF1TypeValues: of values it is what it is of terms, where types of values are bound.
+func TestF1TypeValues(t *testing.T) {
+	c := &chooser{seed: 5}
+	for round := range 400 {
+		p := places(t)[round%5]
+		s := p.scope()
+		x, y := c.madeType(s, 1+c.pick(3)), c.madeType(s, 1+c.pick(3))
+		maker := eval.NewMaker(p.decls, len(p.ctx))
+		var types, room []*eval.Later
+		for i := range p.ctx {
+			types = append(types, maker.Where(i).Later(&p.ctx[i]))
+		}
+		room = append(append(room, types...), nil, nil)
+		for _, z := range []api.Term{x, y} {
+			got := SameTypeValues(room[:len(types)], maker.Later(&x), maker.Later(&z))
+			if want := SameType(p.decls, p.ctx, x, z); got != want {
+				t.Fatalf("%s and %s: %t comes", p.written(x), p.written(z), got)
+			}
+		}
+		if room[len(types)] != nil || room[len(types)+1] != nil {
+			t.Fatal("the spare room is changed")
+		}
+	}
+}

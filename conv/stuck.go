@@ -18,10 +18,10 @@ func (h *hold) stuck(a, b *eval.Value) bool {
 		around = append(around, outer{a, b})
 		a, b = a.Arg(at).Now(), b.Arg(at).Now()
 	}
-	if !alike(a, b, api.TmVar, 0) || a.N != b.N || a.N < 0 || a.N >= len(h.types) {
+	if !alike(a, b, api.TmVar, 0) || a.N != b.N {
 		return false
 	}
-	of := h.types[a.N]
+	of := h.typeOf(a.N)
 	for i := len(around) - 1; i >= 0 && of != nil; i-- {
 		of = h.outwards(around[i], of.Now())
 	}

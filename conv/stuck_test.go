@@ -20,9 +20,9 @@ func TestF2Functions(t *testing.T) {
 	p.same("nat", "(g (fn nat n u))", "(g (fn nat n star))")
 	p.same("nat", "(h k)", "(h (fn nat n (k n)))")
 	p.apart("nat", "(f u)", "(g (fn nat n u))", "(h k)", "(h (fn nat n n))", "(h (fn nat n zero))", "(k zero)")
-	p = at(t, "f", "(pi U1 x nat)")
+	p = at(t, "f", "(pi U0 x nat)")
 	p.same("nat", "(f (pi nat n nat))", "(f (fun one))")
-	p.apart("nat", "(f nat)", "(f unit)", "(f U0)", "(f (pi nat n nat))", "(f (pi nat n unit))")
+	p.apart("nat", "(f nat)", "(f unit)", "(f empty)", "(f (pi nat n nat))", "(f (pi nat n unit))")
 	p = at(t, "f", "(pi (sig nat n unit) x nat)", "p", "(sig nat n unit)", "q", "(sig nat n unit)")
 	p.same("nat", "(f p)", "(f (pair nat n unit (fst p) star))", "(f (pair nat n unit (fst p) (snd q)))")
 	p.apart("nat", "(f p)", "(f q)", "(f (pair nat n unit zero star))")
@@ -87,7 +87,7 @@ func TestF2Counted(t *testing.T) {
 	p.same("nat", "(rec n nat a i j (f j) (suc b))", "(f (rec n nat a i j (f j) b))")
 	// The number must be stuck alike, and not only the same.
 	p.apart("nat", "(rec n nat a i j j (rec n nat a i j j b))", "(rec n nat a i j j (rec n nat a i j i b))", "(rec n nat a i j j b)")
-	p.apartTypes("(rec n U0 nat i j unit a)", "(rec n U0 unit i j nat a)", "(rec n U0 nat i j nat a)", "(rec n U0 nat i j j a)", "(rec n U0 nat i j unit b)", "(rec n U0 nat i j (pi nat h j) a)", "(rec n U0 nat i j (pi j h j) a)", "(rec n U1 nat i j unit a)")
+	p.apartTypes("(rec n U0 nat i j unit a)", "(rec n U0 unit i j nat a)", "(rec n U0 nat i j nat a)", "(rec n U0 nat i j j a)", "(rec n U0 nat i j unit b)", "(rec n U0 nat i j (pi nat h j) a)", "(rec n U0 nat i j (pi j h j) a)", "(rec n U1 U0 i j j a)")
 }
 
 // TestF2CountedOfTheirOwn: types hang on the number: that of z on none, that of s on one more, and what came of it.

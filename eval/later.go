@@ -1,5 +1,7 @@
 package eval
 
+import "sortkernel/api"
+
 // Later is a value that is worked out when it is first asked for, and only then.
 type Later struct {
 	do   doing // nil, once it was done
@@ -23,6 +25,11 @@ type next struct {
 
 func known(v *Value) *Later {
 	return &Later{done: v}
+}
+
+// isFree is whether it is known to be what Free(ahead) is.
+func (l *Later) isFree(ahead int) bool {
+	return l.do == nil && l.done.Is(api.TmVar, 0) && l.done.N == ahead
 }
 
 // ask hands the value on, once it is worked out.

@@ -31,9 +31,41 @@ func (m *Maker) Where(bound int) *Maker {
 	return &Maker{bound: bound, defs: m.defs}
 }
 
-// Later is t's value. It is made of t as t is when it is asked for.
-func (m *Maker) Later(t *api.Term) *Later {
-	return m.later(t, nil)
+// Later is t's value, where those are bound behind those that m knows of. It is made of t as t is when it is asked for.
+func (m *Maker) Later(t *api.Term, behind ...*Later) *Later {
+	return m.later(t, further(nil, behind))
+}
+
+// Under is what a term of a kind with two arguments, of which the second one has one bound, comes to: of a, and of b,
+// which stands where one is bound behind those that m knows of. Of kinds at which there is never a step.
+func (m *Maker) Under(kind int, a, b *Later) *Later {
+	var t *api.Term // b as a term, once something else is bound than where b stands
+	under := func(bound ...*Later) doing {
+		if bound[0].isFree(m.bound) {
+			return b.ask
+		}
+		return func(to then) next {
+			if t == nil {
+				x := told(b, m.bound+1)
+				t = &x
+			}
+			return m.value(t, further(nil, bound), to)
+		}
+	}
+	return known(&Value{Kind: kind, args: []arg{{plain: a}, {under: under}}})
+}
+
+// Told is a value as a term, where those are bound that m knows of.
+func (m *Maker) Told(what *Later) api.Term {
+	return told(what, m.bound)
+}
+
+// further is what is bound within in, and those behind it.
+func further(in *within, bound []*Later) *within {
+	for _, b := range bound {
+		in = &within{last: b, ahead: in}
+	}
+	return in
 }
 
 // later is t's value, within those. A TmVar's is that of what it means, and none of its own: else more and more of
@@ -77,10 +109,7 @@ func (m *Maker) arg(t *api.Term, in *within, binds int) arg {
 		return arg{plain: m.later(t, in)}
 	}
 	return arg{under: func(bound ...*Later) doing {
-		inner := in
-		for _, b := range bound {
-			inner = &within{last: b, ahead: inner}
-		}
+		inner := further(in, bound)
 		return func(to then) next { return m.value(t, inner, to) }
 	}}
 }

@@ -20,6 +20,11 @@ func Free(ahead int) *Later {
 	return known(&Value{Kind: api.TmVar, N: ahead})
 }
 
+// Height is TmU of that height.
+func Height(n int) *Later {
+	return known(&Value{Kind: api.TmU, N: n})
+}
+
 // Of is what a term of that kind comes to, of those; of kinds whose arguments have nothing bound.
 func Of(kind int, args ...*Later) *Later {
 	v := &Value{Kind: kind, args: make([]arg, len(args))}
