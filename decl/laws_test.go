@@ -115,6 +115,26 @@ func TestH1Behind(t *testing.T) {
 	}
 }
 
+// TestH1Further: of a list that is the caller's alone it is Add, but for the copy: what is there stays where it is.
+func TestH1Further(t *testing.T) {
+	for seed := range uint32(100) {
+		l := make([]api.Decl, 0, api.MaxDecls)
+		for _, d := range mixed(t, seed, 40) {
+			handed := roomyAll([]api.Decl{d})
+			want, w := Add(l, d)
+			got, v := Further(l, handed[0])
+			spoilAll(handed)
+			if !sameDecls(got, want) || v != w {
+				t.Fatalf("%v: %q comes, and %v, not %q, and %v", d, Names(got), v, Names(want), w)
+			}
+			if len(l) > 0 && &got[0] != &l[0] {
+				t.Fatalf("%q was copied", Names(l))
+			}
+			l = got
+		}
+	}
+}
+
 // TestH1OnlyReads: what is handed in is only read; on its spare room nothing hangs.
 func TestH1OnlyReads(t *testing.T) {
 	for seed := range uint32(100) {
